@@ -1,0 +1,1 @@
+"""Sleepmany: sleepers who sleep as long as they were many."""

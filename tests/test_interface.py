@@ -1,0 +1,55 @@
+"""The interface: each name stands in its own file, with its arguments."""
+
+import ast
+import importlib
+import inspect
+import unittest
+
+# Each row: a file, and what it defines with the arguments; a method stands as Class.method.
+INTERFACE = {
+    "errors": {
+        "SleepError": None, "Wrong": ["at"], "TooGreat": ["length"], "Twice": ["name"], "NotSo": [],
+        "TooMany": ["most"], "NoHall": ["at"], "NoRow": ["number"], "NoWay": ["at"], "Full": ["most"],
+        "NoSleeper": ["name"], "NoBeat": ["beat"], "Nothing": [], "Stopped": ["at"], "NoText": [], "NoLine": [],
+        "NoHouse": [],
+    },
+    "kinds": {
+        "is_whole": ["thing"], "is_name": ["thing"], "is_length": ["thing"], "is_rest": ["thing"],
+        "are_beats": ["thing"], "is_stroke": ["thing"],
+    },
+    "books": {
+        "Book": ["lengths"], "Book.lengths": [], "Book.sleep": ["many"], "Book.__eq__": ["other"],
+        "Book.__len__": [], "Book.__repr__": [], "plain": ["many"], "slower_book": ["book", "by"],
+    },
+}
+
+
+def defined_in(file):
+    """The names of the functions, classes and methods that the file itself defines, with their arguments."""
+    source = inspect.getsource(importlib.import_module("sleepmany." + file))
+    told = {}
+    for part in ast.parse(source).body:
+        if isinstance(part, ast.FunctionDef):
+            told[part.name] = [one.arg for one in part.args.args]
+        elif isinstance(part, ast.ClassDef):
+            told[part.name] = []
+            for method in part.body:
+                if isinstance(method, ast.FunctionDef):
+                    arguments = [one.arg for one in method.args.args[1:]]
+                    told[part.name if method.name == "__init__" else part.name + "." + method.name] = arguments
+    return told
+
+
+class InterfaceTest(unittest.TestCase):
+    def test_all_stands_in_its_file(self):
+        for file, rows in INTERFACE.items():
+            told = defined_in(file)
+            for name, arguments in rows.items():
+                with self.subTest(file=file, name=name):
+                    self.assertIn(name, told)
+                    if arguments is not None:
+                        self.assertEqual(told[name], arguments)
+
+
+if __name__ == "__main__":
+    unittest.main()
