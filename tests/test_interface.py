@@ -5,7 +5,8 @@ import importlib
 import inspect
 import unittest
 
-# Each row: a file, and what it defines with the arguments; a method stands as Class.method.
+# Each row: a file, and what it defines with the arguments; a method stands as Class.method, what is handed in by its
+# name as *name=default.
 INTERFACE = {
     "errors": {
         "SleepError": None, "Wrong": ["at"], "TooGreat": ["length"], "Twice": ["name"], "NotSo": [],
@@ -21,7 +22,31 @@ INTERFACE = {
         "Book": ["lengths"], "Book.lengths": [], "Book.sleep": ["many"], "Book.__eq__": ["other"],
         "Book.__len__": [], "Book.__repr__": [], "plain": ["many"], "slower_book": ["book", "by"],
     },
+    "numbers": {
+        "divisor": ["one", "other"], "multiple": ["one", "other"], "fraction": ["top", "bottom"],
+        "total": ["fractions"], "order": ["one", "other"],
+    },
+    "standings": {
+        "standing_of": ["pairs"], "heap_of": ["standing"], "groups_of": ["standing"],
+        "slower_standing": ["standing", "by"],
+    },
+    "beats": {
+        "beat": ["book", "standing"], "beat_of_heap": ["book", "heap"], "called": ["book", "standing", "stroke"],
+        "ups_of": ["book", "standing", "row"], "counts_of": ["book", "heap", "beats"],
+    },
+    "goings": {
+        "rest_behind": ["going", "beats"], "times_up": ["going", "beats"], "last_up": ["going", "beat"],
+        "next_up": ["goings", "beat"], "meeting": ["one", "other"], "falling_in": ["one", "other"],
+        "parting_of": ["one", "other"], "is_parting": ["one", "other", "thing"],
+    },
 }
+
+
+def arguments_of(function):
+    told = [one.arg for one in function.args.args]
+    for one, default in zip(function.args.kwonlyargs, function.args.kw_defaults):
+        told.append("*" + one.arg + "=" + ast.unparse(default))
+    return told
 
 
 def defined_in(file):
@@ -30,12 +55,12 @@ def defined_in(file):
     told = {}
     for part in ast.parse(source).body:
         if isinstance(part, ast.FunctionDef):
-            told[part.name] = [one.arg for one in part.args.args]
+            told[part.name] = arguments_of(part)
         elif isinstance(part, ast.ClassDef):
             told[part.name] = []
             for method in part.body:
                 if isinstance(method, ast.FunctionDef):
-                    arguments = [one.arg for one in method.args.args[1:]]
+                    arguments = arguments_of(method)[1:]
                     told[part.name if method.name == "__init__" else part.name + "." + method.name] = arguments
     return told
 
