@@ -39,6 +39,25 @@ INTERFACE = {
         "next_up": ["goings", "beat"], "meeting": ["one", "other"], "falling_in": ["one", "other"],
         "parting_of": ["one", "other"], "is_parting": ["one", "other", "thing"],
     },
+    "leaps": {
+        "fallings": ["book", "standing"], "far": ["book", "standing", "beats"], "up_at": ["book", "standing", "beat"],
+        "ups_from": ["book", "standing", "beat", "many"], "times_of": ["book", "standing", "name", "beats"],
+        "beats_with": ["book", "standing", "beats"], "all_told": ["book", "standing", "beats"],
+        "given_over": ["book", "standing", "beats"],
+    },
+    "rests": {
+        "is_at_rest": ["book", "standing"], "rest_from": ["book", "standing"], "paper_of": ["book", "standing"],
+        "is_paper": ["book", "standing", "thing"], "shares": ["book", "standing"], "round_of": ["book", "standing"],
+    },
+    "hours": {
+        "are_hours": ["book", "sizes", "thing"], "hours_of": ["book", "sizes", "*most=400"],
+        "are_rows": ["book", "sizes", "thing"], "sizes_of": ["book", "many"], "plain_sizes": ["many"],
+    },
+    "hearing": {
+        "can_be_heard": ["book", "counts", "many"], "new_ones": ["book", "counts", "many"],
+        "heard_heap": ["book", "counts", "many"], "unlike_at": ["book", "one", "other"],
+        "dealings": ["book", "counts", "names"], "dealing": ["book", "counts", "names", "number"],
+    },
 }
 
 
