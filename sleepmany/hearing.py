@@ -1,5 +1,6 @@
 """Hearing: what those know of the rests who are told only how many are up at each beat."""
 
+from sleepmany.choices import ways_to_choose
 from sleepmany.errors import NoHall, NoRow
 
 
@@ -55,9 +56,8 @@ def ways_to_deal(parts):
     ways = 1
     many = 0
     for part in parts:
-        for one in range(1, part + 1):
-            many += 1
-            ways = ways * many // one
+        many += part
+        ways *= ways_to_choose(many, part)
     return ways
 
 

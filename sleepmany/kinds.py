@@ -12,6 +12,10 @@ def is_whole(thing):
     return isinstance(thing, int) and not isinstance(thing, bool)
 
 
+def is_number(thing):
+    return is_whole(thing) and thing >= 0
+
+
 def is_within(thing, least, greatest):
     return is_whole(thing) and least <= thing <= greatest
 

@@ -41,3 +41,11 @@ def inverse(number, by):
         greater, lesser = lesser, greater - times * lesser
         last, present = present, last - times * present
     return last % by
+
+
+def power(number, times):
+    """The number times itself so often; 1 where that is never."""
+    worth = 1
+    for again in range(times):
+        worth *= number
+    return worth

@@ -1,11 +1,32 @@
 """Standings: tuples of tuples (name, rest), by names, no name twice."""
 
 from sleepmany.errors import Twice, Wrong
-from sleepmany.kinds import MOST_SLEEPERS, is_name, is_rest
+from sleepmany.kinds import MOST_SLEEPERS, is_name, is_number, is_rest
+
+
+def is_sleeper(thing):
+    """Whether a thing is a tuple of a name and a rest of any size."""
+    if not isinstance(thing, tuple) or len(thing) != 2 or not is_name(thing[0]):
+        return False
+    return is_number(thing[1]) and thing[1] > 0
+
+
+def is_standing(thing):
+    """Whether a thing is a standing, with rests of any size."""
+    if not isinstance(thing, tuple) or len(thing) > MOST_SLEEPERS:
+        return False
+    if not all([is_sleeper(part) for part in thing]):
+        return False
+    names = names_in(thing)
+    return names == sorted(set(names))
+
+
+def names_in(standing):
+    return [name for name, rest in standing]
 
 
 def is_pair(thing):
-    return isinstance(thing, tuple) and len(thing) == 2 and is_name(thing[0]) and is_rest(thing[1])
+    return is_sleeper(thing) and is_rest(thing[1])
 
 
 def are_sleepers(thing):

@@ -1,5 +1,6 @@
 """Halls gone through beat by beat on dicts, apart from the package: what the tests hold it against."""
 
+import itertools
 import random
 
 ALPHABET = "abcdefghijklmnopqrstuvwxyz"
@@ -59,3 +60,14 @@ def spoil(thing):
     elif isinstance(thing, tuple):
         for part in thing:
             spoil(part)
+
+
+def beat_of(lengths, standing):
+    """One beat on a standing: the standing behind it, and who was up."""
+    rests, up = step(lengths, dict(standing))
+    return tuple(sorted(rests.items())), up
+
+
+def all_standings(names, greatest):
+    """All standings of these names with rests up to a greatest."""
+    return [tuple(zip(names, rests)) for rests in itertools.product(range(1, greatest + 1), repeat=len(names))]

@@ -58,6 +58,25 @@ INTERFACE = {
         "heard_heap": ["book", "counts", "many"], "unlike_at": ["book", "one", "other"],
         "dealings": ["book", "counts", "names"], "dealing": ["book", "counts", "names", "number"],
     },
+    "guesses": {
+        "knocked": ["book", "many", "greatest", "knocks"],
+        "heap_knocked": ["book", "many", "greatest", "knocks", "number"],
+        "books_heard": ["counts", "many", "longest"], "book_heard": ["counts", "many", "longest", "number"],
+    },
+    "back": {
+        "heaps_back": ["book", "heap", "counts"], "histories": ["book", "standing", "counts"],
+        "history": ["book", "standing", "counts", "number"], "number_of": ["book", "standings"],
+    },
+    "elders": {
+        "elders": ["book", "standing", "beats", "greatest"],
+        "elder": ["book", "standing", "beats", "greatest", "number"], "is_garden": ["book", "heap"],
+        "gardens": ["book", "many", "greatest"],
+    },
+    "watchers": {
+        "parted_alone": ["one", "other", "standing"],
+        "told_apart": ["one", "first", "other", "second", "strokes", "*heard=False", "*most=200"],
+        "are_pairs": ["one", "first", "other", "second", "strokes", "thing", "*heard=False"],
+    },
 }
 
 
