@@ -63,8 +63,6 @@ def fitting(counts, many, longest):
     heard = sorted(set([count for count in counts if 1 <= count <= many]))
     if power(longest, len(heard)) > MOST_BOOKS:
         raise TooMany(MOST_BOOKS)
-    if max(counts, default=0) > many:
-        return []
     return [lengths for lengths in lists_over(heard, many, longest) if does_fit(lengths, counts)]
 
 

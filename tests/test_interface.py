@@ -77,6 +77,24 @@ INTERFACE = {
         "told_apart": ["one", "first", "other", "second", "strokes", "*heard=False", "*most=200"],
         "are_pairs": ["one", "first", "other", "second", "strokes", "thing", "*heard=False"],
     },
+    "wishes": {
+        "meets": ["standing", "wish"], "prices": ["book", "standing", "strokes", "wish", "*most=200"],
+        "fewest": ["book", "standing", "strokes", "wish", "*most=200"],
+        "is_fair": ["book", "strokes", "wish", "thing"],
+    },
+    "house": {
+        "House": ["books"], "House.come": ["hall", "name", "rest"], "House.lull": ["name", "more"],
+        "House.lead": ["name", "hall"], "House.wait": ["beats"], "House.go": ["name"], "House.call": ["name"],
+        "House.put_in": ["beat", "deed"], "House.back": [], "House.again": [], "House.now": [], "House.story": [],
+        "House.standing": ["hall"], "House.was": ["hall", "beat"], "House.ledger": ["hall"], "House.books": [],
+        "House.copied": [],
+    },
+    "texts": {
+        "show_book": ["book"], "show_standing": ["standing"], "show_heap": ["heap"], "show_stroke": ["stroke"],
+        "show_row": ["row"], "show_counts": ["counts"], "show_story": ["story"], "read_book": ["text"],
+        "read_standing": ["text"], "read_heap": ["text"], "read_stroke": ["text"], "read_row": ["text"],
+    },
+    "desk": {"Desk": [], "Desk.say": ["row"]},
 }
 
 

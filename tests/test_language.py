@@ -175,9 +175,10 @@ class LanguageTest(unittest.TestCase):
                     self.assertIn(other.value, (None, True, False), place)
 
     def test_l25_methods(self):
+        allowed = METHODS | own_methods()
         for place, node in nodes(ast.Call):
             if isinstance(node.func, ast.Attribute):
-                self.assertIn(node.func.attr, METHODS | own_methods(), place)
+                self.assertIn(node.func.attr, allowed, place)
 
     def test_l27_texts_and_powers(self):
         for place, node in nodes(ast.Constant):
